@@ -1,0 +1,1 @@
+"""Joinside: webs told as trees of sides and joins."""
