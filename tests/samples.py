@@ -3,6 +3,7 @@
 import random
 
 from joinside import errors
+from joinside.webs import Web
 
 FIGURES = 10 ** 999  # a whole number of a thousand figures
 
@@ -166,11 +167,38 @@ def _around(piece, points, pair):
     return told
 
 
+def web_with(many, ties):
+    """The Web of so many points with these ties, put in the order told."""
+    web = Web(many)
+    for one, other in ties:
+        web.put(one, other)
+    return web
+
+
+def flip(web, one, other):
+    """Put the tie of the two where there is none, and take it where there is one."""
+    if web.has(one, other):
+        web.take(one, other)
+    else:
+        web.put(one, other)
+
+
 def web_state(web):
     """All that a web tells of itself."""
     many = web.many()
     return (many, web.ties(), [web.beside(point) for point in range(many)],
             [[one != other and web.has(one, other) for other in range(many)] for one in range(many)])
+
+
+def is_row(web, row):
+    """Point 6, word by word."""
+    if type(row) is not tuple or [type(point) for point in row] != [int] * 4 or len(set(row)) != 4:
+        return False
+    if min(row) < 0 or max(row) >= web.many():
+        return False
+    a, b, c, d = row
+    return (web.has(a, b) and web.has(b, c) and web.has(c, d)
+            and not web.has(a, c) and not web.has(b, d) and not web.has(a, d))
 
 
 def refuse(case, name, call, *handed):

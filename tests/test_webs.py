@@ -5,14 +5,7 @@ import unittest
 from joinside import webs
 from joinside.webs import Web, opposite, part
 
-from samples import FIGURES, odd_things, random_ties, refuse, samples_of, web_state
-
-
-def web_with(many, ties):
-    web = Web(many)
-    for one, other in ties:
-        web.put(one, other)
-    return web
+from samples import FIGURES, odd_things, random_ties, refuse, samples_of, web_state, web_with
 
 
 class Interface(unittest.TestCase):
